@@ -1,0 +1,1 @@
+"""oneservesall: answers about many that tell little about one."""
