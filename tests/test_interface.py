@@ -1,0 +1,38 @@
+"""The names and arguments of the document's interface, and where they are defined."""
+
+import importlib
+import inspect
+import unittest
+
+INTERFACE = {
+    "numbers": """is_number(told) number(top,bottom) plus(a,b) minus(a,b) times(a,b) by(a,b) power(a,n) below(a,b)
+        least(numbers) greatest(numbers) total(numbers)""",
+    "ladders": """ladder(n,ratio) chance(n,ratio,i,r) unladder(n,ratio) wide(n,ratio,far) ratio_for(factor)""",
+    "chances": """is_draw(told) draw(rows) mixed(draws) mapped(draw,table) both(one,other) chance_of(draw,thing)
+        mean(draw) ratio_of(one,other)""",
+    "schemes": """is_scheme(told) size(scheme) factor(scheme) has_factor(scheme,number) read_by(scheme,mixed)
+        asked_both(one,other) blended(one,other,chance) turned(scheme)""",
+    "readings": """read_ladder(n,ratio,reading) cost(scheme,asker) best_reading(n,ratio,asker) mixed_of(scheme,ratio)
+        bend(scheme,ratio)""",
+    "sums": """least_sum(many,musts,aim) shows(many,musts,aim,told)""",
+}
+
+
+class InterfaceTest(unittest.TestCase):
+    def test_each_function(self):
+        for file, text in INTERFACE.items():
+            module = importlib.import_module(f"oneservesall.{file}")
+            for told in text.split():
+                name, arguments = told[:-1].split("(")
+                function = getattr(module, name)
+                self.assertTrue(inspect.isfunction(function), told)
+                self.assertEqual(function.__module__, module.__name__, told)
+                parameters = inspect.signature(function).parameters.values()
+                self.assertEqual(",".join(parameter.name for parameter in parameters), arguments, told)
+                for parameter in parameters:
+                    self.assertIs(parameter.kind, inspect.Parameter.POSITIONAL_OR_KEYWORD, told)
+                    self.assertIs(parameter.default, inspect.Parameter.empty, told)
+
+
+if __name__ == "__main__":
+    unittest.main()
