@@ -1,13 +1,9 @@
 """Ladders: the one scheme of a ratio that serves all askers of a count."""
 
-from oneservesall.errors import InvalidIndex, InvalidNumber, InvalidRatio
-from oneservesall.numbers import ONE, ZERO, below, by, greatest, is_number, is_whole, minus, plus, power, times, total
-
-
-def check_count(n):
-    """Raises InvalidNumber if n is no integer from 0 on."""
-    if not is_whole(n) or n < 0:
-        raise InvalidNumber(n)
+from oneservesall.errors import InvalidNumber, InvalidRatio
+from oneservesall.numbers import (
+    ONE, ZERO, below, by, check_count, check_index, greatest, is_number, minus, plus, power, times, total,
+)
 
 
 def check_ratio(ratio):
@@ -34,9 +30,8 @@ def chance(n, ratio, i, r):
     """The chance with which the ladder answers r when the count is i."""
     check_count(n)
     check_ratio(ratio)
-    for index in (i, r):
-        if not is_whole(index) or not 0 <= index <= n:
-            raise InvalidIndex(index)
+    check_index(i, n + 1)
+    check_index(r, n + 1)
     return _step(n, ratio, i, r)
 
 

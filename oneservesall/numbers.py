@@ -2,7 +2,7 @@
 
 from math import gcd
 
-from oneservesall.errors import DividedByZero, InvalidNumber
+from oneservesall.errors import DividedByZero, InvalidIndex, InvalidNumber
 
 ZERO = (0, 1)
 ONE = (1, 1)
@@ -19,6 +19,18 @@ def is_number(told):
         return False
     top, bottom = told
     return is_whole(top) and is_whole(bottom) and bottom > 0 and gcd(top, bottom) == 1
+
+
+def check_count(n):
+    """Raises InvalidNumber if n is no integer from 0 on."""
+    if not is_whole(n) or n < 0:
+        raise InvalidNumber(n)
+
+
+def check_index(index, many):
+    """Raises InvalidIndex if the index is none of so many places."""
+    if not is_whole(index) or not 0 <= index < many:
+        raise InvalidIndex(index)
 
 
 def number(top, bottom):
@@ -60,8 +72,7 @@ def by(a, b):
 def power(a, n):
     """a to the power of an integer n from 0 on; 1 for n = 0, of 0 too."""
     _check_all((a,))
-    if not is_whole(n) or n < 0:
-        raise InvalidNumber(n)
+    check_count(n)
     top, bottom = ONE
     for _ in range(n):
         top = top * a[0]

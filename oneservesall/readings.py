@@ -2,8 +2,8 @@
 
 from oneservesall.chances import is_chance
 from oneservesall.errors import InvalidAsker, InvalidPair, InvalidReading, NoReading
-from oneservesall.ladders import check_count, check_ratio, check_ratio_below_one, ladder, unladder
-from oneservesall.numbers import ONE, ZERO, below, dot, is_whole, minus, plus, times, total
+from oneservesall.ladders import check_ratio, check_ratio_below_one, ladder, unladder
+from oneservesall.numbers import ONE, ZERO, below, check_count, dot, is_whole, minus, plus, times, total
 from oneservesall.schemes import check_scheme, is_row
 
 
@@ -18,6 +18,11 @@ def is_asker(told, many):
         return False
     belief, loss = told
     return is_row(belief) and len(belief) == many and is_loss(loss, many)
+
+
+def losses_at(loss, i):
+    """What each told count costs when the count is i."""
+    return [loss[i][abs(i - j)] for j in range(len(loss))]
 
 
 def check_asker(told, many):
@@ -43,7 +48,7 @@ def cost(scheme, asker):
     if many != answers:
         raise InvalidPair((many, answers))
     belief, loss = asker
-    return dot(belief, [dot(row, _losses(loss, i)) for i, row in enumerate(scheme)])
+    return dot(belief, [dot(row, losses_at(loss, i)) for i, row in enumerate(scheme)])
 
 
 def best_reading(n, ratio, asker):
@@ -53,7 +58,7 @@ def best_reading(n, ratio, asker):
     check_asker(asker, n + 1)
     belief, loss = asker
     # Row i, place j: what it costs on the average that i is the count and j is told.
-    losses = [[times(b, a) for a in _losses(loss, i)] for i, b in enumerate(belief)]
+    losses = [[times(b, a) for a in losses_at(loss, i)] for i, b in enumerate(belief)]
     told = list(zip(*losses))
     scheme = ladder(n, ratio)
     return tuple([_first_least([dot(column, costs) for costs in told]) for column in zip(*scheme)])
@@ -94,11 +99,6 @@ def _is_reading(told, n):
 
 def _read_row(row, reading):
     return tuple([total([a for a, told in zip(row, reading) if told == j]) for j in range(len(row))])
-
-
-def _losses(loss, i):
-    """What each told count costs when the count is i."""
-    return [loss[i][abs(i - j)] for j in range(len(loss))]
 
 
 def _first_least(numbers):

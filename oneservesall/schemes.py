@@ -25,6 +25,19 @@ def check_scheme(told):
         raise InvalidScheme(told)
 
 
+def check_as_many(one, other):
+    """Raises InvalidPair if two schemes have unlike many rows, or two rows unlike many answers."""
+    if len(one) != len(other):
+        raise InvalidPair((len(one), len(other)))
+
+
+def check_schemes(one, other):
+    """Raises InvalidScheme for the first that is none, InvalidPair if they have unlike many rows."""
+    check_scheme(one)
+    check_scheme(other)
+    check_as_many(one, other)
+
+
 def size(scheme):
     """(rows, answers) of a scheme."""
     check_scheme(scheme)
@@ -69,10 +82,7 @@ def read_by(scheme, mixed):
 
 def asked_both(one, other):
     """The scheme of one count asked by both: answers (r, s) in the order of r and then s."""
-    check_scheme(one)
-    check_scheme(other)
-    if len(one) != len(other):
-        raise InvalidPair((len(one), len(other)))
+    check_schemes(one, other)
     return tuple([_products(row, beside) for row, beside in zip(one, other)])
 
 

@@ -4,6 +4,8 @@ from oneservesall.boards import Board
 from oneservesall.errors import InvalidForm, InvalidNumber, InvalidPaper, InvalidWish
 from oneservesall.numbers import ONE, ZERO, are_numbers, below, dot, is_number, is_whole, plus, times, total
 
+MINUS_ONE = (-1, 1)
+
 
 def least_sum(many, musts, aim):
     """What an aim comes to under musts.
@@ -44,6 +46,24 @@ def is_form(told, many):
     if not isinstance(terms, tuple) or not all(_is_term(term, many) for term in terms):
         return False
     return all(term[0] < following[0] for term, following in zip(terms, terms[1:]))
+
+
+def form_of(constant, terms):
+    """The form of a constant and of terms (unknown, number), those without the ones of 0."""
+    return constant, tuple([term for term in terms if term[1] != ZERO])
+
+
+def musts_of_scheme(rows, answers):
+    """The list of the musts of unknowns that are the chances of a scheme, row by row."""
+    found = [("most", form_of(ZERO, [(k, MINUS_ONE)])) for k in range(rows * answers)]
+    for i in range(rows):
+        found.append(("is", form_of(MINUS_ONE, [(i * answers + j, ONE) for j in range(answers)])))
+    return found
+
+
+def in_rows(numbers, many, width):
+    """The first numbers of a tuple as so many rows of a width."""
+    return tuple([numbers[k * width:(k + 1) * width] for k in range(many)])
 
 
 def _is_term(told, many):

@@ -1,4 +1,4 @@
-"""The examples of the document, word for word, each section by itself."""
+"""The examples of the document, word for word, in its sequence: later ones use the names of earlier ones."""
 
 import doctest
 import unittest
@@ -35,23 +35,52 @@ EXAMPLES = {
 >>> [mixed_of((((1, 2), (1, 2)), ((1, 2), (1, 2))), (1, 2)), bend((((9, 10), (1, 10)), ((1, 10), (9, 10))), (1, 2))]
 [(((1, 2), (1, 2)), ((1, 2), (1, 2))), (0, 1)]
 """,
+    "best": r"""
+>>> from oneservesall.best import best, is_shown, least_cost, shown
+>>> [best(1, (1, 2), even)[:2], best(1, (1, 2), sure)[:2], least_cost(2, (1, 1), (((1, 3), (1, 3), (1, 3)), (((0, 1), (1, 1), (2, 1)),) * 3))]
+[((1, 3), (0, 1)), ((1, 10), (0, 0)), (2, 3)]
+>>> paper = (((1, 6), (1, 6)), (((1, 3), (0, 1)),), (((0, 1), (1, 3)),))
+>>> [is_shown(1, (1, 2), even, paper), shown(paper), is_shown(1, (1, 2), sure, paper)]
+[True, (1, 3), False]
+""",
+    "steady": r"""
+>>> from oneservesall.steady import is_steady, steady, worst
+>>> [worst(told, plain), steady(1, (1, 2), plain)[0], is_steady(1, (1, 2), plain, ((1, 3), (((1, 1), (0, 1)), ((0, 1), (1, 1))), ((1, 2), (1, 2))))]
+[((1, 3), 0), (1, 3), True]
+""",
+    "odds": r"""
+>>> from oneservesall.odds import behind, gain, moved, told_apart
+>>> [behind(((1, 2), (1, 2)), told, 0), moved(told, 0, 1), gain(((1, 2), (1, 2)), told), told_apart(told[0], told[1])]
+[((2, 3), (1, 3)), ((2, 1), 0), (2, 3), (2, 3)]
+""",
+    "makes": r"""
+>>> from oneservesall.makes import as_good, is_made, made_of
+>>> blind = (((1, 2), (1, 2)), ((1, 2), (1, 2)))
+>>> [made_of(told, blind)[0], made_of(blind, told)[0], as_good(told, blind), is_made(blind, told, ('parted', plain))]
+['made', 'parted', 'one', False]
+>>> is_made(blind, told, ('parted', (((0, 1), (1, 1)), ((1, 1), (0, 1)))))
+True
+""",
 }
 
 
 class ExamplesTest(unittest.TestCase):
-    def says_so(self, name, text):
-        example = doctest.DocTestParser().get_doctest(text, {}, name, None, 0)
+    def says_so(self, name, text, names):
+        """Runs examples with the names of earlier ones, and returns these and their own."""
+        example = doctest.DocTestParser().get_doctest(text, names, name, None, 0)
         self.assertTrue(example.examples)
         said = []
-        found = doctest.DocTestRunner(verbose=False).run(example, out=said.append)
+        found = doctest.DocTestRunner(verbose=False).run(example, out=said.append, clear_globs=False)
         self.assertEqual((found.failed, "".join(said)), (0, ""))
+        return example.globs
 
     def test_each_section(self):
+        names = {}
         for name, text in EXAMPLES.items():
-            self.says_so(name, text)
+            names = self.says_so(name, text, names)
 
     def test_the_readme(self):
-        self.says_so("README.md", README.read_text("ascii").split("```")[1])
+        self.says_so("README.md", README.read_text("ascii").split("```")[1], {})
 
 
 if __name__ == "__main__":

@@ -15,6 +15,12 @@ INTERFACE = {
     "readings": """read_ladder(n,ratio,reading) cost(scheme,asker) best_reading(n,ratio,asker) mixed_of(scheme,ratio)
         bend(scheme,ratio)""",
     "sums": """least_sum(many,musts,aim) shows(many,musts,aim,told)""",
+    "best": """best(n,ratio,asker) least_cost(n,ratio,asker) is_shown(n,ratio,asker,paper) shown(paper)
+        fault(n,ratio,asker,paper) musts_of(n,ratio) aim_of(asker)""",
+    "steady": """worst(scheme,loss) steady(n,ratio,loss) is_steady(n,ratio,loss,told)""",
+    "odds": """behind(belief,scheme,answer) odds(belief,i,j) moved(scheme,i,j) far(scheme) gain(belief,scheme)
+        told_apart(one,other)""",
+    "makes": """made_of(one,other) is_made(one,other,told) as_good(one,other)""",
 }
 
 
