@@ -5,13 +5,12 @@ from oneservesall.errors import InvalidAsker, InvalidPair, InvalidPaper
 from oneservesall.ladders import check_ratio, ladder
 from oneservesall.numbers import ONE, ZERO, check_count, dot, greatest, is_number, times
 from oneservesall.readings import is_loss, losses_at
-from oneservesall.schemes import check_scheme, is_row, is_scheme, read_by, size
+from oneservesall.schemes import is_row, is_scheme, read_by, size
 from oneservesall.sums import MINUS_ONE, form_of, in_rows, least_sum, musts_of_scheme
 
 
 def worst(scheme, loss):
     """(number, i): the greatest cost of a scheme at a count, and the first such count."""
-    check_scheme(scheme)
     rows, answers = size(scheme)
     _check_loss(loss, rows)
     if rows != answers:

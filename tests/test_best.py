@@ -262,6 +262,12 @@ class FaultTest(BestCase):
             (rows, (((2, 6), (0, 1)),), rises),
             (rows, falls, (((0, 1), (1, -3)),)),
             (rows, falls, (((0, 1), (0, 3)),)),
+            (7, falls, rises),
+            (rows, 7, rises),
+            (rows, falls, 7),
+            (rows, (7,), rises),
+            "falls",
+            7,
         ]
         for wrong in wrongs:
             self.raises(InvalidPaper, wrong, fault, 1, (1, 2), EVEN, wrong)
@@ -344,6 +350,8 @@ class MustsTest(BestCase):
                 self.assertIs(shows(many, musts, aim, told[:2] + (pairs(point), told[3])), True)
 
     def test_wrong_inputs(self):
+        for wrong in [7, "asker", (7, PLAIN), (EVEN[0], 7)]:
+            self.raises(InvalidAsker, wrong, aim_of, wrong)
         for wrong in (-1, -7):
             self.raises(InvalidNumber, wrong, musts_of, wrong, (0, 1))
         for wrong in NO_RATIOS:

@@ -61,6 +61,21 @@ EXAMPLES = {
 >>> is_made(blind, told, ('parted', (((0, 1), (1, 1)), ((1, 1), (0, 1)))))
 True
 """,
+    "samplers": r"""
+>>> from oneservesall.samplers import chances_within, drawn, mean_bits, sampler
+>>> thirds = sampler(((0, (1, 3)), (1, (2, 3))))
+>>> [thirds, drawn(thirds, (1, 1, 1, 0)), drawn(thirds, (1,)), mean_bits(thirds), chances_within(thirds, 1)]
+[(2, (0, 1, 1)), (1, 4), None, (8, 3), [(0, (1, 4)), (1, (1, 2))]]
+""",
+    "questions": r"""
+>>> from oneservesall.questions import answer, passes, range_of, worth
+>>> schema = (('age', (1, 5, 9)), ('ill', (0, 1)))
+>>> sick = ('is', ('value', 'ill'), ('number', 1))
+>>> old = ('sum', sick, ('value', 'age'), 0, 6)
+>>> table = ((1, 1), (9, 1), (5, 0))
+>>> [worth(schema, ('times', ('value', 'age'), ('number', 2)), (5, 0)), passes(schema, sick, (5, 0)), answer(schema, ('count', sick), table), answer(schema, old, table), range_of(schema, old, 2)]
+[10, False, 2, 7, (0, 12)]
+""",
 }
 
 

@@ -21,6 +21,11 @@ INTERFACE = {
     "odds": """behind(belief,scheme,answer) odds(belief,i,j) moved(scheme,i,j) far(scheme) gain(belief,scheme)
         told_apart(one,other)""",
     "makes": """made_of(one,other) is_made(one,other,told) as_good(one,other)""",
+    "samplers": """sampler(draw) drawn(sampler,bits) mean_bits(sampler) chances_within(sampler,rounds)""",
+    "tables": """is_schema(told) is_person(schema,told) is_table(schema,told) persons(schema) tables_of(schema,n)
+        neighbours(schema,table) are_neighbours(schema,one,other) put(schema,table,index,person)""",
+    "questions": """is_term(schema,told) is_test(schema,told) is_question(schema,told) worth(schema,term,person)
+        passes(schema,test,person) answer(schema,question,table) range_of(schema,question,n)""",
 }
 
 

@@ -238,6 +238,13 @@ class IsMadeTest(MakesCase):
             ("parted", (SURE[0], ((1, 1), (2, 4)))),
             ("parted", (SURE[0], ((1, 1), (2, 0)))),
             ("parted", (SURE[0], ())),
+            ("parted", (SURE[0], 7)),
+            ("parted", 7),
+            ("made", 7),
+            (7, SURE),
+            (SURE, "made"),
+            "made",
+            7,
         ]:
             self.raises(InvalidPaper, wrong, is_made, TOLD, BLIND, wrong)
 

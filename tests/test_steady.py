@@ -237,6 +237,11 @@ class IsSteadyTest(Raising, unittest.TestCase):
             (number, mixed, ((1, 2), (1, 3))),
             (number, mixed, ((3, 2), (-1, 2))),
             (number, mixed, ((2, 4), (1, 2))),
+            (7, mixed, belief),
+            (number, 7, belief),
+            (number, mixed, 7),
+            "told",
+            7,
         ]:
             self.raises(InvalidPaper, wrong, is_steady, 1, (1, 2), PLAIN, wrong)
         self.raises(InvalidPaper, STEADY, is_steady, 0, (1, 2), (((0, 1),),), STEADY)
