@@ -27,6 +27,12 @@ def check_count(n):
         raise InvalidNumber(n)
 
 
+def check_some(n):
+    """Raises InvalidNumber if n is no integer from 1 on."""
+    if not is_whole(n) or n < 1:
+        raise InvalidNumber(n)
+
+
 def check_index(index, many):
     """Raises InvalidIndex if the index is none of so many places."""
     if not is_whole(index) or not 0 <= index < many:
@@ -89,7 +95,7 @@ def below(a, b):
 
 def least(numbers):
     """The least of some numbers."""
-    _check_some(numbers)
+    _check_not_empty(numbers)
     found = numbers[0]
     for a in numbers:
         if _is_less(a, found):
@@ -99,7 +105,7 @@ def least(numbers):
 
 def greatest(numbers):
     """The greatest of some numbers."""
-    _check_some(numbers)
+    _check_not_empty(numbers)
     found = numbers[0]
     for a in numbers:
         if _is_less(found, a):
@@ -136,7 +142,7 @@ def _check_all(numbers):
             raise InvalidNumber(a)
 
 
-def _check_some(numbers):
+def _check_not_empty(numbers):
     if len(numbers) == 0:
         raise InvalidNumber(numbers)
     _check_all(numbers)

@@ -91,6 +91,11 @@ def range_of(schema, question, n):
     return min(answers), max(answers)
 
 
+def kept_within(a, low, high):
+    """A number kept within low to high: the end that it would pass, else itself."""
+    return max(low, min(a, high))
+
+
 def _names(schema):
     return [name for name, _ in schema]
 
@@ -163,7 +168,7 @@ def _passes(names, test, person):
 
 def _answer(names, question, table):
     if question[0] == "kept":
-        return _kept(_answer(names, question[1], table), question[2], question[3])
+        return kept_within(_answer(names, question[1], table), question[2], question[3])
     if question[0] == "part":
         return _answer(names, question[1], table) // question[2]
     passing = [person for person in table if _passes(names, question[1], person)]
@@ -173,9 +178,5 @@ def _answer(names, question, table):
     if question[0] == "different":
         return len(set(numbers))
     low, high = question[3], question[4]
-    kept = [_kept(a, low, high) for a in numbers]
+    kept = [kept_within(a, low, high) for a in numbers]
     return sum(kept) if question[0] == "sum" else max([low, *kept])
-
-
-def _kept(a, low, high):
-    return max(low, min(a, high))

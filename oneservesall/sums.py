@@ -1,8 +1,8 @@
 """The least of a linear sum under musts, exact, with multipliers that show it."""
 
 from oneservesall.boards import Board
-from oneservesall.errors import InvalidForm, InvalidNumber, InvalidPaper, InvalidWish
-from oneservesall.numbers import ONE, ZERO, are_numbers, below, dot, is_number, is_whole, plus, times, total
+from oneservesall.errors import InvalidForm, InvalidPaper, InvalidWish
+from oneservesall.numbers import ONE, ZERO, are_numbers, below, check_some, dot, is_number, is_whole, plus, times, total
 
 MINUS_ONE = (-1, 1)
 
@@ -74,8 +74,7 @@ def _is_term(told, many):
 
 
 def _check_task(many, musts, aim):
-    if not is_whole(many) or many < 1:
-        raise InvalidNumber(many)
+    check_some(many)
     for form in [part for _, part in musts] + [aim]:
         if not is_form(form, many):
             raise InvalidForm(form)

@@ -76,6 +76,22 @@ True
 >>> [worth(schema, ('times', ('value', 'age'), ('number', 2)), (5, 0)), passes(schema, sick, (5, 0)), answer(schema, ('count', sick), table), answer(schema, old, table), range_of(schema, old, 2)]
 [10, False, 2, 7, (0, 12)]
 """,
+    "folds": r"""
+>>> from oneservesall.folds import alike, standings, stepped
+>>> [standings(schema, ('count', sick), 3), stepped(schema, ('different', sick, ('value', 'age')), (1, 9), (5, 1)), len(alike(schema, old))]
+[[0, 1, 2, 3], (1, 5, 9), 4]
+""",
+    "stretches": r"""
+>>> from oneservesall.stretches import pairs, row_stretch, stretch
+>>> [stretch(schema, old, 3)[0], pairs(schema, ('count', sick), 2), row_stretch(schema, (('count', sick), old), 3)]
+[6, [(0, 0), (0, 1), (1, 1), (1, 2), (2, 2)], 7]
+""",
+    "releases": r"""
+>>> from oneservesall.releases import ladder_release, outputs, release_factor
+>>> counted = ladder_release(schema, ('count', sick), 2, (1, 2))
+>>> [counted[1:3], outputs(schema, counted, ((1, 1), (5, 0))), release_factor(schema, counted, 2)[0]]
+[(0, 2), ((1, 3), (1, 3), (1, 3)), (2, 1)]
+""",
 }
 
 

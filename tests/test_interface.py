@@ -26,6 +26,14 @@ INTERFACE = {
         neighbours(schema,table) are_neighbours(schema,one,other) put(schema,table,index,person)""",
     "questions": """is_term(schema,told) is_test(schema,told) is_question(schema,told) worth(schema,term,person)
         passes(schema,test,person) answer(schema,question,table) range_of(schema,question,n)""",
+    "folds": """begun(schema,question) stepped(schema,question,standing,person) standing(schema,question,table)
+        told_by(schema,question,standing) standings(schema,question,n) alike(schema,question)""",
+    "stretches": """stretch(schema,question,n) pairs(schema,question,n) row_stretch(schema,questions,n)
+        is_stretch(schema,question,n,told)""",
+    "releases": """is_release(schema,told) outputs(schema,release,table) chance(schema,release,table,output)
+        release_factor(schema,release,n) read_release(schema,release,mixed) ladder_release(schema,question,n,ratio)""",
+    "trees": """is_tree(schema,told) row(releases) ways(tree) tree_chances(schema,tree,table)
+        tree_factor(schema,tree,n) way_bound(schema,tree,n)""",
 }
 
 
