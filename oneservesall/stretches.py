@@ -15,7 +15,8 @@ def stretch(schema, question, n):
         table = first_table(schema, n)
         return 0, table, table
     furthest = max(met, key=_distance)
-    return _distance(furthest), *met[furthest]
+    one, other = met[furthest]
+    return _distance(furthest), one, other
 
 
 def pairs(schema, question, n):

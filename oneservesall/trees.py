@@ -7,7 +7,8 @@ from oneservesall.tables import check_schema, check_table
 from oneservesall.walks import answers_met, first_table, steepest
 
 END = ("end",)
-# How many of the trees that were found right last are kept in mind.
+# Behind how many trees that were found right others are compared with these, and with how many of the last ones.
+PLENTY = 256
 RECENT = 64
 
 
@@ -74,9 +75,9 @@ def way_bound(schema, tree, n):
 
 def _is_right(schema, told, known):
     """True for a tree of a schema, or of any if it is None; known are trees that were found right, and grow."""
-    # Branches that are alike are looked at once, or a row of many releases would take without end.
+    # Without a comparison a row of many releases, whose branches are alike, would take without end.
     # What is known is right, so that no comparison goes deeper than a tree.
-    if told in known[-RECENT:]:
+    if len(known) > PLENTY and told in known[-RECENT:]:
         return True
     if told != END:
         if not _is_ask(schema, told):

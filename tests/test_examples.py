@@ -92,6 +92,19 @@ True
 >>> [counted[1:3], outputs(schema, counted, ((1, 1), (5, 0))), release_factor(schema, counted, 2)[0]]
 [(0, 2), ((1, 3), (1, 3), (1, 3)), (2, 1)]
 """,
+    "ledgers": r"""
+>>> from oneservesall.ledgers import Ledger, moved_by
+>>> ledger = Ledger(schema, ((1, 1), (5, 0)), (3, 1))
+>>> [ledger.ask(counted, (1, 2)), ledger.paid, ledger.left, moved_by(schema, ((1, 1), (5, 0)), ((1, 0), (5, 0)), ledger.history())]
+[1, (2, 1), (3, 2), (2, 1)]
+""",
+    "texts": r"""
+>>> from oneservesall.texts import show_part, show_release, show_schema
+>>> [show_part(old), show_schema(schema)]
+['(sum (is (value ill) 1) (value age) 0 6)', 'age : 1 5 9\nill : 0 1']
+>>> show_release(counted).split('\n')
+['(count (is (value ill) 1))', '0 2', '2/3 1/6 1/6', '1/3 1/3 1/3', '1/6 1/6 2/3']
+""",
 }
 
 
@@ -111,7 +124,12 @@ class ExamplesTest(unittest.TestCase):
             names = self.says_so(name, text, names)
 
     def test_the_readme(self):
-        self.says_so("README.md", README.read_text("ascii").split("```")[1], {})
+        names = {}
+        # Between the fences; the last of these are for a shell.
+        for text in README.read_text("ascii").split("```")[1::2]:
+            if ">>>" in text:
+                names = self.says_so("README.md", text, names)
+        self.assertIn("console", names)
 
 
 if __name__ == "__main__":

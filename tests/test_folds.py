@@ -5,7 +5,7 @@ from raising import Raising
 from test_questions import NO_QUESTIONS, WIDE, asked, nested, summed
 from test_tables import DEEP, NO_PERSONS, NO_SCHEMAS, NO_TABLES, TWELVE, everyone
 from walking import (
-    AGE, ALL, COUNT, ILL, LONE, NOBODY, OLD, ONE, PAIR, QUAD, QUESTIONS, SCHEMA, SICK, TRIO, drawn_questions, standing_at,
+    AGE, ALL, COUNT, ILL, LONE, NOBODY, OLD, PAIR, QUAD, QUESTIONS, SCHEMA, SICK, TRIO, drawn_questions, standing_at,
     tables,
 )
 
@@ -18,7 +18,8 @@ OLDEST = ("greatest", SICK, AGE, 2, 6)
 
 def wrapped(question):
     """The question itself, and within some of "kept" and "part", which leave its standing as it is."""
-    return [question, ("kept", question, 1, 2), ("part", question, 3), ("part", ("kept", ("part", question, 2), 0, 9), 4)]
+    within = ("part", ("kept", ("part", question, 2), 0, 9), 4)
+    return [question, ("kept", question, 1, 2), ("part", question, 3), within]
 
 
 class BegunTest(Raising, unittest.TestCase):
@@ -40,9 +41,11 @@ class SteppedTest(Raising, unittest.TestCase):
     def test_each_kind(self):
         for told, ahead, person, expected in [
                 (COUNT, 4, (5, 1), 5), (COUNT, 4, (5, 0), 4), (OLD, 4, (5, 1), 9), (OLD, 4, (9, 1), 10),
-                (OLD, 4, (9, 0), 4), (("sum", ALL, AGE, 6, 7), 0, (1, 0), 6), (("sum", ALL, AGE, -7, -6), 3, (1, 0), -3),
+                (OLD, 4, (9, 0), 4), (("sum", ALL, AGE, 6, 7), 0, (1, 0), 6),
+                (("sum", ALL, AGE, -7, -6), 3, (1, 0), -3),
                 (OLDEST, 2, (5, 1), 5), (OLDEST, 2, (9, 1), 6), (OLDEST, 6, (5, 1), 6), (OLDEST, 2, (1, 1), 2),
-                (OLDEST, 5, (9, 0), 5), (AGES, (), (5, 1), (5,)), (AGES, (), (5, 0), ()), (AGES, (1, 9), (5, 1), (1, 5, 9)),
+                (OLDEST, 5, (9, 0), 5), (AGES, (), (5, 1), (5,)), (AGES, (), (5, 0), ()),
+                (AGES, (1, 9), (5, 1), (1, 5, 9)),
                 (AGES, (1, 9), (9, 1), (1, 9)), (AGES, (5,), (1, 1), (1, 5)), (AGES, (5,), (9, 1), (5, 9)),
                 (("different", ALL, ("less", ILL, AGE)), (-4, 0), (9, 0), (-9, -4, 0))]:
             for question in wrapped(told):
@@ -74,14 +77,16 @@ class StandingTest(Raising, unittest.TestCase):
                         self.assertEqual(standing(schema, question, sequence), expected)
                     self.assertEqual(standing(table=table, question=question, schema=schema), expected)
                     self.assertEqual(told_by(schema, question, expected), asked(schema, question, table))
-                    self.assertEqual(told_by(standing=found, question=question, schema=schema), asked(schema, question, table))
+                    self.assertEqual(told_by(standing=found, question=question, schema=schema),
+                                     asked(schema, question, table))
 
     def test_known_ones(self):
         table = ((9, 1), (1, 1), (9, 1), (5, 0))
         for question, expected, answer in [(COUNT, 3, 3), (OLD, 13, 13), (("part", OLD, 4), 13, 3),
                                            (("kept", OLD, 0, 9), 13, 9), (OLDEST, 6, 6), (AGES, (1, 9), 2),
                                            (("part", AGES, 2), (1, 9), 1), (("kept", AGES, 5, 9), (1, 9), 5),
-                                           (("greatest", NOBODY, AGE, -4, 9), -4, -4), (("different", NOBODY, AGE), (), 0),
+                                           (("greatest", NOBODY, AGE, -4, 9), -4, -4),
+                                           (("different", NOBODY, AGE), (), 0),
                                            (("part", ("sum", SICK, ("less", ILL, AGE), -99, 99), 5), -16, -4)]:
             self.assertEqual(standing(SCHEMA, question, table), expected)
             self.assertEqual(told_by(SCHEMA, question, expected), answer)

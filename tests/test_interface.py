@@ -34,23 +34,49 @@ INTERFACE = {
         release_factor(schema,release,n) read_release(schema,release,mixed) ladder_release(schema,question,n,ratio)""",
     "trees": """is_tree(schema,told) row(releases) ways(tree) tree_chances(schema,tree,table)
         tree_factor(schema,tree,n) way_bound(schema,tree,n)""",
+    "ledgers": """moved_by(schema,one,other,history)""",
+    "texts": """show_number(a) show_part(told) show_schema(schema) show_table(table) show_scheme(scheme)
+        show_release(release) show_tree(tree) show_asker(asker)""",
+    "readers": """read_number(text) read_question(schema,text) read_schema(text) read_table(schema,text) read_scheme(text)
+        read_release(schema,text) read_tree(schema,text) read_asker(text)""",
+}
+CLASSES = {
+    ("ledgers", "Ledger"): ("__init__(self,schema,table,limit) ask(self,release,lot) history(self) twin(self)",
+                            "schema paid left"),
+    ("consoles", "Console"): ("""__init__(self) keep_schema(self,name,schema)
+        keep_ledger(self,name,schema_name,table,limit) drop(self,name) names(self) ledger(self,name) undo(self)
+        order(self,text)""", ""),
 }
 
 
 class InterfaceTest(unittest.TestCase):
+    def has_each(self, names, text, module):
+        """Each function of a text is among the names, is defined in the module, and has these arguments."""
+        for told in text.split():
+            name, arguments = told[:-1].split("(")
+            function = names[name]
+            self.assertTrue(inspect.isfunction(function), told)
+            self.assertEqual(function.__module__, module.__name__, told)
+            parameters = inspect.signature(function).parameters.values()
+            self.assertEqual(",".join(parameter.name for parameter in parameters), arguments, told)
+            for parameter in parameters:
+                self.assertIs(parameter.kind, inspect.Parameter.POSITIONAL_OR_KEYWORD, told)
+                self.assertIs(parameter.default, inspect.Parameter.empty, told)
+
     def test_each_function(self):
         for file, text in INTERFACE.items():
             module = importlib.import_module(f"oneservesall.{file}")
-            for told in text.split():
-                name, arguments = told[:-1].split("(")
-                function = getattr(module, name)
-                self.assertTrue(inspect.isfunction(function), told)
-                self.assertEqual(function.__module__, module.__name__, told)
-                parameters = inspect.signature(function).parameters.values()
-                self.assertEqual(",".join(parameter.name for parameter in parameters), arguments, told)
-                for parameter in parameters:
-                    self.assertIs(parameter.kind, inspect.Parameter.POSITIONAL_OR_KEYWORD, told)
-                    self.assertIs(parameter.default, inspect.Parameter.empty, told)
+            self.has_each(vars(module), text, module)
+
+    def test_each_class(self):
+        for (file, name), (methods, properties) in CLASSES.items():
+            module = importlib.import_module(f"oneservesall.{file}")
+            made = getattr(module, name)
+            self.assertTrue(inspect.isclass(made))
+            self.assertEqual(made.__module__, module.__name__)
+            self.has_each(vars(made), methods, module)
+            for told in properties.split():
+                self.assertIsInstance(vars(made)[told], property)
 
 
 if __name__ == "__main__":

@@ -139,6 +139,24 @@ class LanguageTest(unittest.TestCase):
             self.assertIsNone(BARRED_WORDS.search(path.read_text("ascii")))
             self.assertFalse([n for n in nodes(tree, ast.Name) if n.id == "_" and isinstance(n.ctx, ast.Load)])
 
+    def test_l4_l5_decorators_are_properties_that_share_no_name(self):
+        properties, others = [], set()
+        for path, tree in self.each():
+            for node in nodes(tree, ast.FunctionDef):
+                marks = [mark.id for mark in node.decorator_list]
+                self.assertLessEqual(set(marks), {"property"}, node.name)
+                if marks:
+                    properties.append(node.name)
+                    self.assertIsInstance(node.body[-1], ast.Return)
+            for node in nodes(tree, ast.ClassDef):
+                self.assertFalse(node.decorator_list)
+                methods = {n.name for n in node.body if isinstance(n, ast.FunctionDef) and not n.decorator_list}
+                stored = {n.attr for n in nodes(node, ast.Attribute) if isinstance(n.ctx, ast.Store)}
+                self.assertFalse(methods & stored)
+                others |= methods | stored
+        self.assertEqual(len(properties), len(set(properties)))
+        self.assertFalse(set(properties) & others)
+
     def test_l19_l20_errors_and_is(self):
         for path, tree in self.each():
             for node in nodes(tree, ast.Raise):

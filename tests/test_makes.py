@@ -1,7 +1,7 @@
 import random
 import unittest
 
-from exact import F, fractions, ladder_table, long_row, multiplied, pair, pairs, random_ratio, random_row, table
+from exact import F, fractions, ladder_table, long_row, multiplied, pair, random_ratio, random_row, table
 from raising import Raising
 from test_schemes import NO_SCHEMES
 

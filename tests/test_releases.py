@@ -1,18 +1,18 @@
 import random
 import unittest
 
-from exact import F, fractions, ladder_table, multiplied, pair, random_ratio, random_scheme, table as numbers_of
+from exact import F, fractions, ladder_table, multiplied, random_ratio, random_scheme, table as numbers_of
 from raising import Raising
 from test_questions import NO_QUESTIONS, WIDE, asked
 from test_tables import DEEP, NO_SCHEMAS, NO_TABLES, everyone
 from walking import (
-    AGE, ALL, COUNT, ILL, LONE, NOBODY, OLD, PAIR, QUAD, QUESTIONS, SCHEMA, SICK, TRIO, answers_at, are_moved,
-    drawn_questions, kept_row, least_factor, random_release, tables,
+    AGE, ALL, COUNT, ILL, LONE, NOBODY, OLD, PAIR, QUAD, QUESTIONS, SCHEMA, SICK, TRIO, Reaching, answers_at, are_moved,
+    drawn_questions, kept_row, random_release, tables,
 )
 
 from oneservesall.errors import (
-    InvalidIndex, InvalidNumber, InvalidPair, InvalidQuestion, InvalidRatio, InvalidRelease, InvalidScheme, InvalidSchema,
-    InvalidTable,
+    InvalidIndex, InvalidNumber, InvalidPair, InvalidQuestion, InvalidRatio, InvalidRelease, InvalidScheme,
+    InvalidSchema, InvalidTable,
 )
 from oneservesall.releases import chance, is_release, ladder_release, outputs, read_release, release_factor
 
@@ -126,22 +126,13 @@ class OutputsTest(Raising, unittest.TestCase):
             self.raises(InvalidIndex, wrong, chance, SCHEMA, COIN, TABLE, wrong)
 
 
-class ReleaseFactorTest(Raising, unittest.TestCase):
+class ReleaseFactorTest(Reaching, Raising, unittest.TestCase):
     def told_right(self, schema, release, n):
-        rows = {table: kept_row(schema, release, table) for table in tables(schema, n)}
-        expected = least_factor(schema, rows, n)
-        factor, one, other, output = release_factor(schema, release, n)
-        self.assertTrue(are_moved(one, other) and one in rows and other in rows)
-        x, y = F(*rows[one][output]), F(*rows[other][output])
-        self.assertGreater(x, 0)
-        if expected is None:
-            self.assertIsNone(factor)
-            self.assertEqual(y, 0)
-        else:
-            self.assertEqual(factor, pair(expected))
-            self.assertEqual(x, expected * y)
-        self.assertEqual(release_factor(n=n, release=release, schema=schema)[0], factor)
-        return factor
+        chances = {table: dict(enumerate(kept_row(schema, release, table))) for table in tables(schema, n)}
+        told = release_factor(schema, release, n)
+        self.reaches_the_least(schema, chances, told, n)
+        self.assertEqual(release_factor(n=n, release=release, schema=schema)[0], told[0])
+        return told[0]
 
     def test_all_tables(self):
         rng = random.Random(223)

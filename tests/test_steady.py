@@ -2,7 +2,7 @@ import random
 import unittest
 
 from exact import (
-    F, LONG_RATIOS, fractions, ladder_table, least_ladder_cost, long_number, long_row, losses_of, moved_scheme,
+    F, LONG_RATIOS, fractions, ladder_table, least_ladder_cost, long_number, losses_of, moved_scheme,
     multiplied, odd_losses, pair, pairs, random_asker, random_ratio, random_row, random_scheme, table,
 )
 from raising import Raising

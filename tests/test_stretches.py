@@ -58,7 +58,8 @@ class StretchTest(Raising, unittest.TestCase):
     def test_one_person_alone_can_be(self):
         for n in range(1, 5):
             first = ((4, 0),) * n
-            for question in (("count", ALL), ("sum", ALL, ("value", "a"), 0, 99), ("different", NOBODY, ("value", "a"))):
+            for question in (("count", ALL), ("sum", ALL, ("value", "a"), 0, 99),
+                             ("different", NOBODY, ("value", "a"))):
                 self.assertEqual(stretch(LONE, question, n), (0, first, first))
 
     def test_wrong_inputs(self):
@@ -87,7 +88,8 @@ class PairsTest(Raising, unittest.TestCase):
 
     def test_known_ones(self):
         for n in range(1, 5):
-            self.assertEqual(pairs(SCHEMA, COUNT, n), sorted([(k, k) for k in range(n + 1)] + [(k, k + 1) for k in range(n)]))
+            expected = sorted([(k, k) for k in range(n + 1)] + [(k, k + 1) for k in range(n)])
+            self.assertEqual(pairs(SCHEMA, COUNT, n), expected)
             self.assertEqual(pairs(SCHEMA, ("count", ALL), n), [(n, n)])
         # Of two persons there is no other one with the same answer, of three neither.
         self.assertEqual(pairs(PAIR, ("sum", ALL, ("value", "a"), -9, 9), 1), [(-7, 3)])

@@ -6,8 +6,8 @@ from raising import Raising
 from test_releases import COIN, HALVES, NO_RELEASES, SURE, TABLE, TOLD
 from test_tables import DEEP, NO_SCHEMAS, NO_TABLES
 from walking import (
-    AGE, ALL, COUNT, LONE, OLD, PAIR, QUAD, QUESTIONS, SCHEMA, SICK, TRIO, are_moved, drawn_questions, kept_row, least_factor,
-    random_release, tables,
+    AGE, ALL, COUNT, LONE, OLD, PAIR, QUAD, QUESTIONS, SCHEMA, TRIO, Reaching, are_moved, drawn_questions, kept_row,
+    least_factor, random_release, tables,
 )
 
 from oneservesall.errors import InvalidNumber, InvalidRelease, InvalidSchema, InvalidTable, InvalidTree
@@ -119,6 +119,13 @@ class IsTreeTest(Raising, unittest.TestCase):
             self.assertIs(is_tree(SCHEMA, ("ask", wrong, (END, END))), False)
             self.assertIs(is_tree(SCHEMA, asking(COIN, ("ask", COIN, (END, END)), ("ask", wrong, (END, END)))), False)
 
+    def test_a_wrong_one_beside_a_right_one_that_is_equal(self):
+        for wrong in ((COUNT, False, True, TOLD), (COUNT, 0, 1, (((2, 3), (True, 3)), ((True, 3), (2, 3))))):
+            right, told = asking(COIN, END, END), asking(wrong, END, END)
+            self.assertEqual(right, told)
+            self.assertIs(is_tree(SCHEMA, asking(COIN, right, told)), False)
+            self.assertIs(is_tree(SCHEMA, asking(COIN, told, right)), False)
+
     def test_drawn_ones_with_one_part_wrong(self):
         rng = random.Random(231)
         for _ in range(60):
@@ -128,8 +135,8 @@ class IsTreeTest(Raising, unittest.TestCase):
                 release = told[1]
                 self.assertIs(is_tree(SCHEMA, ("ask", release, told[2][:-1])), False)
                 self.assertIs(is_tree(SCHEMA, ("ask", release, told[2] + (END,))), False)
-                for wrong in (release[:2] + (release[2] + 1,) + release[3:], release[:3] + (release[3] + release[3][:1],),
-                              (("count",),) + release[1:]):
+                for wrong in (release[:2] + (release[2] + 1,) + release[3:],
+                              release[:3] + (release[3] + release[3][:1],), (("count",),) + release[1:]):
                     self.assertIs(is_tree(SCHEMA, ("ask", wrong, told[2])), False)
 
     def test_sixty_asks_deep(self):
@@ -146,6 +153,21 @@ class IsTreeTest(Raising, unittest.TestCase):
                 for _ in range(60):
                     told = asking(release, *[told] * len(release[3][0]))
                 self.assertIs(is_tree(SCHEMA, told), expected)
+
+    def test_very_many_branches_of_which_one_is_wrong(self):
+        rng = random.Random(238)
+
+        def broad(deep, wrong, way):
+            """A tree of unlike releases with twelve outputs each, with the wrong part at the end of a way."""
+            if deep == 0:
+                return wrong if way == () else END
+            release = (COUNT, 0, 1, random_scheme(rng, 2, 12))
+            return asking(release, *[broad(deep - 1, wrong, way[1:] if way and way[0] == r else None) for r in range(12)])
+
+        for way in [(0, 0, 0), (0, 11, 11), (5, 0, 7), (11, 11, 0), (11, 11, 11)]:
+            self.assertIs(is_tree(SCHEMA, broad(3, END, way)), True)
+            for wrong in (("end", 1), asking(COIN, END), asking((COUNT, 0, 2, TOLD), END, END)):
+                self.assertIs(is_tree(SCHEMA, broad(3, wrong, way)), False)
 
     def test_sixty_asks_deep_with_unlike_branches_that_come_again(self):
         for last, expected in ((END, True), (asking(SAY, END, END), False)):
@@ -178,8 +200,8 @@ class RowTest(Raising, unittest.TestCase):
 
     def test_wrong_inputs(self):
         for wrong in [7, "abcd", (), COUNT, (COUNT, 0, 1), (COUNT, 0, 1, TOLD, 1), (COUNT, 0, 1, ()), (COUNT, 0, 1, 7),
-                      (COUNT, 0, 1, (((1, 2), (1, 3)),)), (COUNT, 0, 1, ((1, 2), (1, 2))), (TOLD, 0, 1, COUNT), TOLD, DEEP,
-                      (COUNT, 0, 1, DEEP)]:
+                      (COUNT, 0, 1, (((1, 2), (1, 3)),)), (COUNT, 0, 1, ((1, 2), (1, 2))), (TOLD, 0, 1, COUNT), TOLD,
+                      DEEP, (COUNT, 0, 1, DEEP)]:
             self.raises_lightly(InvalidRelease, wrong, row, (wrong,))
             self.raises_lightly(InvalidRelease, wrong, row, (COIN, wrong, (7,), COIN))
 
@@ -250,23 +272,15 @@ class TreeChancesTest(Raising, unittest.TestCase):
             self.raises_lightly(InvalidTable, wrong, tree_chances, SCHEMA, MIXED, wrong)
 
 
-class TreeFactorTest(Raising, unittest.TestCase):
+class TreeFactorTest(Reaching, Raising, unittest.TestCase):
     def told_right(self, schema, tree, n):
-        chances = {table: walked(tree, table, schema) for table in tables(schema, n)}
-        rows = {table: tuple(pair(x) for _, x in told) for table, told in chances.items()}
-        expected = least_factor(schema, rows, n)
-        factor, one, other, output = tree_factor(schema, tree, n)
-        self.assertTrue(are_moved(one, other) and one in chances and other in chances)
-        x, y = dict(chances[one])[output], dict(chances[other])[output]
-        self.assertGreater(x, 0)
-        if expected is None:
-            self.assertIsNone(factor)
-            self.assertEqual(y, 0)
-        else:
-            self.assertEqual(factor, pair(expected))
-            self.assertEqual(x, expected * y)
-        self.assertEqual(tree_factor(n=n, tree=tree, schema=schema)[0], factor)
-        return factor
+        chances = {
+            table: {output: pair(x) for output, x in walked(tree, table, schema)} for table in tables(schema, n)
+        }
+        told = tree_factor(schema, tree, n)
+        self.reaches_the_least(schema, chances, told, n)
+        self.assertEqual(tree_factor(n=n, tree=tree, schema=schema)[0], told[0])
+        return told[0]
 
     def test_all_tables(self):
         rng = random.Random(234)

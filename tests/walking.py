@@ -2,7 +2,7 @@
 
 from itertools import product
 
-from exact import F, random_scheme
+from exact import F, pair, random_scheme
 from test_questions import asked, drawn_question, fitting, reckoned, within
 from test_tables import everyone
 
@@ -111,3 +111,22 @@ def least_factor(schema, rows, n):
             if x[0]:
                 found = max(found, F(*x) / F(*y))
     return found
+
+
+class Reaching:
+    """Mixed into a test case: least factors against a walk over all tables, neighbours and outputs."""
+
+    def reaches_the_least(self, schema, chances, told, n):
+        """told is (factor, one, other, output), chances a dictionary of the chances of outputs, by table."""
+        factor, one, other, output = told
+        rows = {table: tuple(row.values()) for table, row in chances.items()}
+        expected = least_factor(schema, rows, n)
+        self.assertTrue(are_moved(one, other) and one in chances and other in chances)
+        x, y = F(*chances[one][output]), F(*chances[other][output])
+        self.assertGreater(x, 0)
+        if expected is None:
+            self.assertIsNone(factor)
+            self.assertEqual(y, 0)
+        else:
+            self.assertEqual(factor, pair(expected))
+            self.assertEqual(x, expected * y)
